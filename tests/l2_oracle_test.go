@@ -145,7 +145,7 @@ func fieldsAsTable(m impl.Module, f impl.Func, block int64, i impl.Instr) bool {
 
 func isOperandOf(m impl.Module, types []int64, o impl.Operand) bool {
 	switch {
-	case !isType(o.Type) || o.Kind < 1 || o.Kind > 5:
+	case o.Kind < 1 || o.Kind > 5:
 		return false
 	case o.Kind == impl.OperandWord:
 		return o.Index == 0 && isWidth(o.Type) && bigWord(o.Word).Cmp(power(o.Type)) < 0
@@ -158,7 +158,7 @@ func isOperandOf(m impl.Module, types []int64, o impl.Operand) bool {
 	case o.Kind == impl.OperandNull:
 		return o.Index == 0 && o.Type == 65
 	}
-	return o.Index == 0
+	return o.Index == 0 && isType(o.Type)
 }
 
 func argumentsAsTable(m impl.Module, f impl.Func, values []int64, i impl.Instr) bool {
