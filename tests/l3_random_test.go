@@ -21,6 +21,7 @@ type shaper struct {
 	names []string
 	m     impl.Module
 	types []int64
+	bars  func(value int64) bool // which values are no arguments; none are barred if it is nil
 }
 
 func (s *shaper) oneOf(list ...int64) int64 {
@@ -35,7 +36,22 @@ func (s *shaper) name() string {
 }
 
 func shapedModule(numbers *sequence) impl.Module {
+	return drawModule(numbers, (*shaper).body)
+}
+
+func drawModule(numbers *sequence, body func(s *shaper, f *impl.Func)) impl.Module {
 	s := shaper{sequence: numbers, names: namesToDraw}
+	s.heads()
+	for at := range s.m.Funcs {
+		if s.m.Funcs[at].Link != impl.LinkExtern {
+			body(&s, &s.m.Funcs[at])
+		}
+	}
+	return s.m
+}
+
+// heads draws the globals, and functions without blocks.
+func (s *shaper) heads() {
 	for range s.below(impl.MaxGlobals + 1) {
 		g := impl.Global{Name: s.name(), Link: int64(s.below(4)), Fixed: s.below(2) == 0, Size: s.oneOf(1, 2, 9, 10, 255, 256)}
 		if count := s.below(4); g.Link != impl.LinkExtern && count > 0 {
@@ -52,12 +68,6 @@ func shapedModule(numbers *sequence) impl.Module {
 		}
 		s.m.Funcs = append(s.m.Funcs, f)
 	}
-	for at := range s.m.Funcs {
-		if s.m.Funcs[at].Link != impl.LinkExtern {
-			s.body(&s.m.Funcs[at])
-		}
-	}
-	return s.m
 }
 
 // body draws operations and types first, so that arguments may be values of all places.
@@ -69,14 +79,7 @@ func (s *shaper) body(f *impl.Func) {
 		for range s.below(3) {
 			list = append(list, impl.Instr{Op: impl.OpPhi, Type: s.oneOf(allTypes...)})
 		}
-		for range s.below(7) {
-			i := s.head()
-			if i.Op == impl.OpAlloca && (b > 0 || i.Size > room) {
-				continue
-			}
-			room -= i.Size
-			list = append(list, i)
-		}
+		list = append(list, s.middle(b, &room)...)
 		f.Blocks[b].Instrs = append(list, impl.Instr{Op: impl.OpJump + int64(s.below(5))})
 	}
 	s.types, _ = wantValues(*f)
@@ -85,6 +88,20 @@ func (s *shaper) body(f *impl.Func) {
 			s.fill(*f, &f.Blocks[b].Instrs[at])
 		}
 	}
+}
+
+// middle is what stands between the phis of a block and its end, without arguments.
+func (s *shaper) middle(b int, room *int64) []impl.Instr {
+	var list []impl.Instr
+	for range s.below(7) {
+		i := s.head()
+		if i.Op == impl.OpAlloca && (b > 0 || i.Size > *room) {
+			continue
+		}
+		*room -= i.Size
+		list = append(list, i)
+	}
+	return list
 }
 
 // head is an instruction without arguments that is no phi and no end.
@@ -210,7 +227,7 @@ func (s *shaper) give(i *impl.Instr, types ...int64) {
 func (s *shaper) operand(t int64) impl.Operand {
 	var values []int64
 	for n, other := range s.types {
-		if other == t {
+		if other == t && (s.bars == nil || !s.bars(int64(n))) {
 			values = append(values, int64(n))
 		}
 	}
