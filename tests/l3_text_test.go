@@ -342,10 +342,10 @@ func TestPlacesThatThereAreNot(t *testing.T) {
 	}
 }
 
-// TestWrongShapesHaveNoText takes a module of each fault.
-func TestWrongShapesHaveNoText(t *testing.T) {
-	for code, bend := range []func(m *impl.Module){
-		nil,
+// faultMakers bend fullModule so that it has the fault of their number.
+func faultMakers() []func(m *impl.Module) {
+	return []func(m *impl.Module){
+		func(m *impl.Module) {},
 		func(m *impl.Module) { m.Globals = make([]impl.Global, 13) },
 		func(m *impl.Module) { m.Globals[1].Size = 0 },
 		func(m *impl.Module) { m.Funcs[fullWeak].Name = "own" },
@@ -358,16 +358,27 @@ func TestWrongShapesHaveNoText(t *testing.T) {
 			list := m.Funcs[fullEvery].Blocks[0].Instrs
 			list[2] = phi(64, []int64{0}, wordArg(64, 1))
 		},
-	} {
-		if bend == nil {
-			continue
-		}
+	}
+}
+
+// wrongShapes are modules that each have the fault of their number; the one of 0 has none.
+func wrongShapes(t *testing.T) []impl.Module {
+	t.Helper()
+	var out []impl.Module
+	for code, bend := range faultMakers() {
 		m := fullModule()
 		bend(&m)
 		if got := wantFault(m).Code; got != int64(code) {
 			t.Error("the test's module has the fault", got, "not", code)
 		}
-		if impl.FormatModule(m) != "" || impl.FormatInstr(m, fullEvery, 0, 0) != "" || impl.FormatInstr(m, fullOwn, 0, 0) != "" {
+		out = append(out, m)
+	}
+	return out
+}
+
+func TestWrongShapesHaveNoText(t *testing.T) {
+	for code, m := range wrongShapes(t) {
+		if code > 0 && (impl.FormatModule(m) != "" || impl.FormatInstr(m, fullEvery, 0, 0) != "" || impl.FormatInstr(m, fullOwn, 0, 0) != "") {
 			t.Error("a module with the fault", code, "has a text")
 		}
 	}
