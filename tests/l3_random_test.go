@@ -22,6 +22,7 @@ type shaper struct {
 	m     impl.Module
 	types []int64
 	bars  func(value int64) bool // which values are no arguments; none are barred if it is nil
+	busy  bool                   // with memory and calls
 }
 
 func (s *shaper) oneOf(list ...int64) int64 {
@@ -107,6 +108,9 @@ func (s *shaper) middle(b int, room *int64) []impl.Instr {
 // head is an instruction without arguments that is no phi and no end.
 func (s *shaper) head() impl.Instr {
 	op := 1 + int64(s.below(25))
+	if s.busy && s.below(3) == 0 {
+		op = s.oneOf(impl.OpLoad, impl.OpStore, impl.OpOffset, impl.OpCall)
+	}
 	i := impl.Instr{Op: op, Type: s.oneOf(allTypes...)}
 	switch op {
 	case impl.OpCompare:
