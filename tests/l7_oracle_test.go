@@ -30,6 +30,7 @@ type teller struct {
 	fixed   map[int64]bool
 	gone    map[int64]bool
 	seen    map[[2]int64][]impl.Value
+	onTouch func(a *activity, pointer impl.Operand, size int64, at impl.Value) // told of each load and store, if it is not nil
 }
 
 // activity is one call of a function.
@@ -37,6 +38,7 @@ type activity struct {
 	fn      int64
 	f       impl.Func
 	values  map[int64]impl.Value
+	times   map[int64]int // how often each value was defined
 	numbers map[impl.Place]int64
 	own     []int64
 }
@@ -69,7 +71,11 @@ func wantBad(m impl.Module, entry string, args []uint64, l impl.Limits) bool {
 }
 
 func tellRun(m impl.Module, entry string, args []uint64, l impl.Limits) *teller {
-	t := &teller{m: m, limits: l, deepest: 1, memory: map[[2]int64]any{}, fixed: map[int64]bool{}, gone: map[int64]bool{}, seen: map[[2]int64][]impl.Value{}}
+	return tellTouches(m, entry, args, l, nil)
+}
+
+func tellTouches(m impl.Module, entry string, args []uint64, l impl.Limits, onTouch func(a *activity, pointer impl.Operand, size int64, at impl.Value)) *teller {
+	t := &teller{onTouch: onTouch, m: m, limits: l, deepest: 1, memory: map[[2]int64]any{}, fixed: map[int64]bool{}, gone: map[int64]bool{}, seen: map[[2]int64][]impl.Value{}}
 	if wantBad(m, entry, args, l) {
 		t.out.End = impl.EndBad
 		return t
@@ -112,7 +118,7 @@ func (t *teller) end(code int64) impl.Value {
 func (t *teller) run(fn int64, args []impl.Value) impl.Value {
 	t.depth++
 	defer func() { t.depth-- }()
-	a := &activity{fn: fn, f: t.m.Funcs[fn], values: map[int64]impl.Value{}, numbers: map[impl.Place]int64{}}
+	a := &activity{fn: fn, f: t.m.Funcs[fn], values: map[int64]impl.Value{}, times: map[int64]int{}, numbers: map[impl.Place]int64{}}
 	_, places := wantValues(a.f)
 	for n, place := range places {
 		if place.Block >= 0 {
@@ -140,6 +146,7 @@ func (t *teller) run(fn int64, args []impl.Value) impl.Value {
 
 func (t *teller) define(a *activity, value int64, v impl.Value) {
 	a.values[value] = v
+	a.times[value]++
 	key := [2]int64{a.fn, value}
 	t.seen[key] = append(t.seen[key], v)
 }
@@ -242,8 +249,10 @@ func (t *teller) value(a *activity, i impl.Instr, args []impl.Value) impl.Value 
 		a.own = append(a.own, number)
 		return impl.Value{Object: number}
 	case impl.OpLoad:
+		t.touch(a, i.Args[0], i.Type, args[0])
 		return t.load(i.Type, args[0])
 	case impl.OpStore:
+		t.touch(a, i.Args[1], i.Args[0].Type, args[1])
 		return t.store(i.Args[0].Type, args[0], args[1])
 	case impl.OpOffset:
 		return t.offset(args[0], args[1])
@@ -336,6 +345,12 @@ func bytesOf(t int64) int64 {
 // isTouchable: all of the bytes of a thing of this type lie in the object.
 func (t *teller) isTouchable(kind int64, p impl.Value) bool {
 	return !p.Poison && p.Object != 0 && !t.gone[p.Object] && int64(p.Word)+bytesOf(kind) <= t.sizes[p.Object-1]
+}
+
+func (t *teller) touch(a *activity, pointer impl.Operand, kind int64, at impl.Value) {
+	if t.onTouch != nil && t.isTouchable(kind, at) {
+		t.onTouch(a, pointer, bytesOf(kind), at)
+	}
 }
 
 func (t *teller) store(kind int64, v, p impl.Value) impl.Value {
