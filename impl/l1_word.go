@@ -113,6 +113,10 @@ func familyOf(op int64) int64 {
 	return familyNone
 }
 
+func isOperation(op int64) bool {
+	return familyOf(op) != familyNone
+}
+
 func isRemainder(op int64) bool {
 	return op == OpURem || op == OpSRem
 }

@@ -30,6 +30,7 @@ type teller struct {
 	fixed   map[int64]bool
 	gone    map[int64]bool
 	seen    map[[2]int64][]impl.Value
+	wavers  bool                                                               // poison was divided by -1
 	onTouch func(a *activity, pointer impl.Operand, size int64, at impl.Value) // told of each load and store, if it is not nil
 }
 
@@ -284,12 +285,13 @@ func (t *teller) words(i impl.Instr, args []impl.Value) impl.Value {
 	if divides && (args[1] == poisoned || args[1] == plain(0)) {
 		return t.end(impl.EndUndefined)
 	}
+	w := i.Args[0].Type
 	for _, v := range args {
 		if v.Poison || v.Object != 0 && t.gone[v.Object] {
+			t.wavers = t.wavers || isOneOf(i.Op, impl.OpSDiv, impl.OpSRem) && args[1] == plain(allOnes(w))
 			return poisoned
 		}
 	}
-	w := i.Args[0].Type
 	var got impl.WordResult
 	switch {
 	case i.Op == impl.OpCompare && w == impl.TypePtr:
