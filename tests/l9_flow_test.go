@@ -167,14 +167,14 @@ func TestFoldWhereNoRunComes(t *testing.T) {
 		{"%4 = or i64 %4, 3; print %4", "%4 = or i64 %4, 3; print %4"},
 		{"%4 = add i64 %5, 1; %5 = add i64 %4, 2; print %5", "print poison"},
 		{"%4 = xor i64 %5, 1; %5 = xor i64 %6, 2; %6 = xor i64 %4, 4; print %5", "print poison"},
-		{"%4 = and i64 %5, 3; %5 = and i64 %4, 6; print %5", "%4 = and i64 %4, 2; %5 = and i64 %4, 6; print %5"},
+		{"%4 = and i64 %5, 3; %5 = and i64 %4, 6; print %5", "%4 = and i64 %4, 2; %5 = and i64 %4, 2; print %5"},
 		{"%4 = sub i64 %4, 1; print %4", "print poison"},
-		// What hangs on such values and is none of them is not joined with them.
+		// What hangs on such values and is none of them is joined with them, as long as that leads on.
 		{"%4 = xor i64 %5, 1; %5 = and i64 %5, 2; print %4", "%4 = xor i64 %5, 1; %5 = and i64 %5, 2; print %4"},
-		{"%4 = and i64 %5, 6; %5 = and i64 %5, 3; print %4", "%4 = and i64 %5, 6; %5 = and i64 %5, 3; print %4"},
+		{"%4 = and i64 %5, 6; %5 = and i64 %5, 3; print %4", "%4 = and i64 %5, 2; %5 = and i64 %5, 3; print %4"},
 		{"%4 = xor i64 %5, 7; %5 = xor i64 %5, 3; print %4", "print poison"},
 		{"%4 = add i64 %5, 7; %5 = add i64 %5, 3; print %4", "print poison"},
-		{"%4 = or i64 %5, 4; %5 = or i64 %6, 2; %6 = or i64 %6, 1; print %4", "%4 = or i64 %6, 6; %5 = or i64 %6, 2; %6 = or i64 %6, 1; print %4"},
+		{"%4 = or i64 %5, 4; %5 = or i64 %6, 2; %6 = or i64 %6, 1; print %4", "%4 = or i64 %6, 7; %5 = or i64 %6, 3; %6 = or i64 %6, 1; print %4"},
 		{"%4 = xor i64 %5, 8; %5 = and i64 %6, 2; %6 = xor i64 %4, 1; print %4", "%4 = xor i64 %5, 8; %5 = and i64 %6, 2; %6 = xor i64 %5, 9; print %4"},
 	} {
 		for _, block := range []string{"0:; return i64 %1; 1:; %s; jump 1", "0:; return i64 %1; 1:; jump 1; 2:; %s; return i64 3"} {
@@ -199,8 +199,8 @@ func TestFoldOffsetsThatGoRound(t *testing.T) {
 		"%0 = offset %0, -1; store i8 1, %0":                                              "%0 = offset %0, -9223372036854775808; store i8 1, %0",
 		"%0 = offset %0, 0; store i8 1, %0":                                               "store i8 1, poison",
 		"%0 = offset %1, 5; %1 = offset %0, -5; store i8 1, %1":                           "store i8 1, poison",
-		"%0 = offset %1, 5; %1 = offset %1, 3; store i8 1, %0":                            "%0 = offset %1, 5; %1 = offset %1, 6917529027641081856; store i8 1, %0",
-		"%0 = offset %1, 5; %1 = offset %2, 3; %2 = offset %2, 4611686018427387904; trap": "%0 = offset %2, 8; %1 = offset %2, 3; %2 = offset %2, 4611686018427387904; trap",
+		"%0 = offset %1, 5; %1 = offset %1, 3; store i8 1, %0":                            "%0 = offset %1, 9223372036854775805; %1 = offset %1, 6917529027641081856; store i8 1, %0",
+		"%0 = offset %1, 5; %1 = offset %2, 3; %2 = offset %2, 4611686018427387904; trap": "%0 = offset %2, 4611686018427387912; %1 = offset %2, 4611686018427387907; %2 = offset %2, 4611686018427387904; trap",
 	} {
 		text := func(lines string) impl.Func {
 			if !strings.HasSuffix(lines, "trap") {

@@ -21,7 +21,6 @@ type place struct {
 	f    impl.Func
 	list []impl.Place
 	i    impl.Instr
-	own  impl.Operand
 }
 
 func dropsFor(o impl.Operand) folding {
@@ -235,19 +234,6 @@ func (p place) link(op int64, o impl.Operand) *impl.Instr {
 	return i
 }
 
-// chain are the values that one comes to from an operand on, by one operation with words, each once; in the end nil, or the operand that came already.
-func (p place) chain(op int64, o impl.Operand) (list []impl.Operand, again *impl.Operand) {
-	for i := p.link(op, o); i != nil; i = p.link(op, o) {
-		if slices.Contains(list, o) {
-			return list, &o
-		}
-		list = append(list, o)
-		o = i.Args[0]
-	}
-	return list, nil
-}
-
-// ruleOfChains leaves alone what hangs on values that go round and is none of them, and what would stay as it is: where no run comes there may be such.
 func (p place) ruleOfChains() folding {
 	i := p.i
 	if !isOneOf(i.Op, impl.OpAdd, impl.OpAnd, impl.OpOr, impl.OpXor, impl.OpOffset) || i.Args[1].Kind != impl.OperandWord {
@@ -255,9 +241,6 @@ func (p place) ruleOfChains() folding {
 	}
 	inner := p.link(i.Op, i.Args[0])
 	if inner == nil {
-		return folding{}
-	}
-	if list, again := p.chain(i.Op, i.Args[0]); again != nil && *again == i.Args[0] && !slices.Contains(list, p.own) {
 		return folding{}
 	}
 	w := i.Args[1].Type
@@ -271,11 +254,7 @@ func (p place) ruleOfChains() folding {
 	} else {
 		c = wantArith(i.Op, 0, w, c, d).Word
 	}
-	to := ins(i.Op, i.Type, inner.Args[0], wordArg(w, c))
-	if alike(to, i) {
-		return folding{}
-	}
-	return turnsInto(to)
+	return turnsInto(ins(i.Op, i.Type, inner.Args[0], wordArg(w, c)))
 }
 
 func (p place) ruleOfSelects() folding {
@@ -359,34 +338,39 @@ func droppedFor(f impl.Func, at impl.Place, own, o impl.Operand) impl.Func {
 
 // wantStep is FoldOnce of a well-made function, and the number of the rule, 0 if there is none.
 func wantStep(f impl.Func) (impl.Func, int) {
-	f = deepCopy(f)
+	to, rule, _ := wantStepBut(f, nil)
+	return to, rule
+}
+
+// wantStepBut is the first step that there is but at what defines some values; it tells the rule and the value where the step is.
+func wantStepBut(f impl.Func, but []int64) (to impl.Func, rule int, value int64) {
 	types, places := wantValues(f)
-	value := int64(len(f.Params))
+	value = int64(len(f.Params))
 	for b := range f.Blocks {
 		for at, i := range f.Blocks[b].Instrs {
 			if i.Type == 0 {
 				continue
 			}
-			own := valueArg(types[value], value)
-			for rule := 1; rule <= 11; rule++ {
-				e := place{f, places, i, own}.wantRule(rule)
-				if e.to != nil {
-					f.Blocks[b].Instrs[at] = *e.to
+			for rule := 1; rule <= 11 && !slices.Contains(but, value); rule++ {
+				e := place{f, places, i}.wantRule(rule)
+				if e.to == nil && e.drop == nil {
+					continue
 				}
 				if e.drop != nil {
-					f = droppedFor(f, places[value], own, *e.drop)
+					return droppedFor(deepCopy(f), places[value], valueArg(types[value], value), *e.drop), rule, value
 				}
-				if e.to != nil || e.drop != nil {
-					return f, rule
-				}
+				f.Blocks = slices.Clone(f.Blocks)
+				f.Blocks[b].Instrs = slices.Clone(f.Blocks[b].Instrs)
+				f.Blocks[b].Instrs[at] = deepCopy(*e.to)
+				return f, rule, value
 			}
 			value++
 		}
 	}
-	return f, 0
+	return f, 0, -1
 }
 
-// checkFold holds Fold, and each step on the way there, against the words of the document; it counts the rules by their numbers.
+// checkFold holds Fold, and each step on the way there, against the words of the document; it counts the rules by their numbers, and by 0 the functions that may be changed.
 func checkFold(t *testing.T, f impl.Func) (impl.Func, [12]int) {
 	t.Helper()
 	var count [12]int
@@ -399,21 +383,27 @@ func checkFold(t *testing.T, f impl.Func) (impl.Func, [12]int) {
 		}
 		return f, count
 	}
+	count[0]++
 	now := f
-	for {
+	for range longWay / 4 {
 		want, rule := wantStep(now)
 		if got := impl.FoldOnce(now); got.Done != (rule > 0) || !alike(got.Func, want) {
 			t.Fatalf("FoldOnce gives %v\n%snot, by the rule %d,\n%sof\n%s", got.Done, textOf(got.Func), rule, textOf(want), textOf(now))
 		}
-		count[rule]++
-		if now = want; rule == 0 {
+		if rule == 0 || alike(want, now) {
 			break
 		}
+		count[rule]++
+		now = want
 	}
-	if got := impl.Fold(f); !alike(got, now) {
-		t.Fatalf("Fold gives\n%snot\n%sof\n%s", textOf(got), textOf(now), textOf(f))
+	got := impl.Fold(f)
+	if want, told := wantFold(f); told && !alike(got, want) {
+		t.Fatalf("Fold gives\n%snot\n%sof\n%s", textOf(got), textOf(want), textOf(f))
 	}
-	return now, count
+	if again := impl.Fold(got); !alike(again, got) {
+		t.Fatalf("folded twice it is\n%snot\n%sof\n%s", textOf(again), textOf(got), textOf(f))
+	}
+	return got, count
 }
 
 // textOf is the text of a function of any module.

@@ -277,6 +277,12 @@ func TestFoldStandsForWhatItWas(t *testing.T) {
 	}
 }
 
+// goesRound: where no run comes, steps of folding lead back to the function, whichever instruction they are taken at.
+func goesRound(f impl.Func) bool {
+	folded, told := wantFold(f)
+	return len(impl.Order(f)) < len(f.Blocks) && told && alike(folded, f)
+}
+
 // TestFoldTwiceIsFoldOnce is promise 12 for folding.
 func TestFoldTwiceIsFoldOnce(t *testing.T) {
 	t.Parallel()
@@ -289,7 +295,7 @@ func TestFoldTwiceIsFoldOnce(t *testing.T) {
 			if got := impl.Fold(folded); !alike(got, folded) {
 				t.Fatalf("folded twice it is\n%snot\n%sof\n%s", textOf(got), textOf(folded), textOf(f))
 			}
-			if got := impl.FoldOnce(folded); got.Done || !alike(got.Func, folded) {
+			if got := impl.FoldOnce(folded); got.Done && !goesRound(folded) || !got.Done && !alike(got.Func, folded) {
 				t.Fatalf("when it is folded there is more to do:\n%sof\n%s", textOf(got.Func), textOf(folded))
 			}
 			if !alike(folded, f) {
